@@ -42,24 +42,24 @@ func Ends(l []api.Part) []int {
 	return ends
 }
 
-// Ups are the parts of which each part is a kid, -1 of roots.
-func Ups(l []api.Part) []int {
-	ups := make([]int, len(l))
+// Ups are the parts of which each part is a kid, -1 of roots, and as which kid, from 0 on.
+func Ups(l []api.Part) (ups, places []int) {
+	ups, places = make([]int, len(l)), make([]int, len(l))
 	var open []int // parts that have kids to come, the last one within the others
-	var left []int // how many
+	var read []int // how many came
 	for i, p := range l {
 		ups[i] = -1
-		if n := len(open); n > 0 {
-			ups[i] = open[n-1]
-			if left[n-1]--; left[n-1] == 0 {
-				open, left = open[:n-1], left[:n-1]
+		if n := len(open) - 1; n >= 0 {
+			ups[i], places[i] = open[n], read[n]
+			if read[n]++; read[n] == l[open[n]].Kids {
+				open, read = open[:n], read[:n]
 			}
 		}
 		if p.Kids > 0 {
-			open, left = append(open, i), append(left, p.Kids)
+			open, read = append(open, i), append(read, 0)
 		}
 	}
-	return ups
+	return ups, places
 }
 
 // Kids are the kids of a part, of a list whose Ends are known.

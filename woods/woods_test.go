@@ -34,8 +34,12 @@ func TestPlaces(t *testing.T) {
 	if want := []int{7, 2, 5, 4, 5, 7, 7, 8}; !slices.Equal(ends, want) {
 		t.Errorf("Ends = %v, want %v", ends, want)
 	}
-	if got, want := woods.Ups(l), []int{-1, 0, 0, 2, 2, 0, 5, -1}; !slices.Equal(got, want) {
-		t.Errorf("Ups = %v, want %v", got, want)
+	ups, places := woods.Ups(l)
+	if want := []int{-1, 0, 0, 2, 2, 0, 5, -1}; !slices.Equal(ups, want) {
+		t.Errorf("Ups = %v, want %v", ups, want)
+	}
+	if want := []int{0, 0, 1, 0, 1, 2, 0, 0}; !slices.Equal(places, want) {
+		t.Errorf("Ups = .., %v, want %v", places, want)
 	}
 	for i := range l {
 		if woods.End(l, i) != ends[i] {
