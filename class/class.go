@@ -56,12 +56,11 @@ func Word(s string) bool {
 
 // Name tells names.
 func Name(s string) bool {
-	l, ok := runes.All(s)
-	if !ok || len(l) == 0 || !Letter(l[0]) || Word(s) {
+	if s == "" || Word(s) || runes.Bad(s) >= 0 {
 		return false
 	}
-	for _, r := range l[1:] {
-		if !Letter(r) && !Digit(r) {
+	for at, r := range s {
+		if !Letter(r) && (at == 0 || !Digit(r)) {
 			return false
 		}
 	}
