@@ -1,7 +1,6 @@
 package driver_test
 
 import (
-	"fmt"
 	"strings"
 	"testing"
 
@@ -13,22 +12,6 @@ import (
 	"emend/syntax"
 	"emend/trials"
 )
-
-// file is a file of rules, each told as goal, holes, what is sought and what is put.
-func file(l ...string) string {
-	var b strings.Builder
-	for i, s := range l {
-		f := strings.Split(s, "|")
-		fmt.Fprintf(&b, "rule r%d %s\n", i, f[0])
-		for _, h := range strings.Split(f[1], ",") {
-			if h != "" {
-				b.WriteString("hole " + h + "\n")
-			}
-		}
-		b.WriteString("find\n" + f[2] + "\nwith\n" + f[3] + "\nend\n")
-	}
-	return b.String()
-}
 
 func read(t *testing.T, s string) []api.Rule {
 	t.Helper()
@@ -60,18 +43,18 @@ func TestP22_1(t *testing.T) {
 		{api.GExpr, "a", grow, 9, result(api.Long, "a", 2, api.ErrLong, 0)}, {api.GExpr, "a", grow, 2, result(api.Long, "a", 2, api.ErrLong, 0)}, {api.GExpr, "f(a)", doubled, 3, result(api.Spent, "f(f(a, a))", 3, 0, 0)},
 	} {
 		if c.rules == doubled {
-			c.want.Text = driver.Run(c.goal, c.s, read(t, file(c.rules)), 3).Text
+			c.want.Text = driver.Run(c.goal, c.s, read(t, trials.Rules(c.rules)), 3).Text
 		}
-		got := driver.Run(c.goal, c.s, read(t, file(c.rules)), c.fuel)
+		got := driver.Run(c.goal, c.s, read(t, trials.Rules(c.rules)), c.fuel)
 		if got != c.want {
 			t.Errorf("Run(%.20q, %.40q, %d) = %d, %.40q, %d, %v; want %d, %.40q, %d, %v", c.s, c.rules, c.fuel, got.Status, got.Text, got.Rounds, got.Fault, c.want.Status, c.want.Text, c.want.Rounds, c.want.Fault)
 		}
-		if again := driver.File(c.goal, c.s, file(c.rules), c.fuel); again != got {
+		if again := driver.File(c.goal, c.s, trials.Rules(c.rules), c.fuel); again != got {
 			t.Errorf("File(%.20q, %.40q, %d) = %d, %.40q, %d, %v", c.s, c.rules, c.fuel, again.Status, again.Text, again.Rounds, again.Fault)
 		}
 	}
 	// Two rounds on, the second one is refused: the first text is answered.
-	two := file("expr||a|b", "expr||b|c.d")
+	two := trials.Rules("expr||a|b", "expr||b|c.d")
 	if got := driver.Run(api.GStmts, "goto  a", read(t, two), 5); got != result(api.Refused, "goto  a", 1, api.ErrFit, 0) {
 		t.Errorf("a run that is refused in its second round: %v", got)
 	}
@@ -121,7 +104,7 @@ func TestP22_2(t *testing.T) {
 		goal := uint8(1 + i%4)
 		s := trials.Text(goal, d, 3)
 		from := d.Roll(len(all))
-		rules := read(t, file(all[from:min(len(all), from+1+d.Roll(3))]...))
+		rules := read(t, trials.Rules(all[from:min(len(all), from+1+d.Roll(3))]...))
 		fuel := d.Roll(12)
 		got := driver.Run(goal, s, rules, fuel)
 		if want := run(goal, s, rules, fuel); got != want {

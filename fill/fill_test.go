@@ -1,7 +1,6 @@
 package fill_test
 
 import (
-	"fmt"
 	"math"
 	"slices"
 	"strings"
@@ -18,29 +17,14 @@ import (
 	"emend/trials"
 )
 
-// make1 reads a rule, told as goal, holes, what is sought and what is put.
-func make1(t *testing.T, name, s string) api.Rule {
+// rules are rules told in short.
+func rules(t *testing.T, short ...string) []api.Rule {
 	t.Helper()
-	f := strings.Split(s, "|")
-	file := "rule " + name + " " + f[0] + "\n"
-	for _, h := range strings.Split(f[1], ",") {
-		if h != "" {
-			file += "hole " + h + "\n"
-		}
+	l, f := rule.Read(trials.Rules(short...))
+	if f != (api.Fault{}) {
+		t.Fatalf("rules %q: %v", short, f)
 	}
-	l, fault := rule.Read(file + "find\n" + f[2] + "\nwith\n" + f[3] + "\nend\n")
-	if fault != (api.Fault{}) {
-		t.Fatalf("rule %q: %v", s, fault)
-	}
-	return l[0]
-}
-
-func rules(t *testing.T, l ...string) []api.Rule {
-	var out []api.Rule
-	for i, s := range l {
-		out = append(out, make1(t, fmt.Sprintf("r%d", i), s))
-	}
-	return out
+	return l
 }
 
 func parse(t *testing.T, goal uint8, s string) []api.Part {
@@ -60,13 +44,13 @@ func show(l []api.Part) string {
 func bind(name string, from, to int) api.Bind { return api.Bind{Name: name, From: from, To: to} }
 
 func TestP20_1(t *testing.T) {
-	r := make1(t, "r", "expr|x expr,y expr|x + y|y + x")
+	r := rules(t, "expr|x expr,y expr|x + y|y + x")[0]
 	l := parse(t, api.GExpr, "a * b + c")
 	got, from, e := fill.Fill(r, l, []api.Bind{bind("x", 1, 4), bind("y", 4, 5)})
 	if e != api.OK || show(got) != `(37 "+" (26 "c") (37 "*" (26 "a") (26 "b")))` || !slices.Equal(from, []int{-1, 4, 1, 2, 3}) {
 		t.Errorf("Fill = %s, %v, %d", show(got), from, e)
 	}
-	two := make1(t, "r", "stmt|ss stmts,xs exprs,s stmt|{ss; s; f(xs)}|ss; f(0, xs, 1); s; ss")
+	two := rules(t, "stmt|ss stmts,xs exprs,s stmt|{ss; s; f(xs)}|ss; f(0, xs, 1); s; ss")[0]
 	m := parse(t, api.GStmts, "{a; b; return; f(c, d)}")
 	got, from, e = fill.Fill(two, m, []api.Bind{bind("ss", 3, 7), bind("xs", 13, 15), bind("s", 7, 9)})
 	row := append([]api.Part{{Kind: 200, Kids: 6}}, got...)
@@ -76,7 +60,7 @@ func TestP20_1(t *testing.T) {
 	if got, from, e := fill.Fill(two, m, []api.Bind{bind("ss", 3, 3), bind("xs", 15, 15), bind("s", 7, 9)}); e != api.OK || len(got) != 8 || got[3].Kids != 2 || !slices.Equal(from, []int{-1, -1, -1, -1, -1, -1, 7, 8}) {
 		t.Errorf("Fill with none = %v, %v, %d", got, from, e)
 	}
-	none := make1(t, "r", "stmt||return|")
+	none := rules(t, "stmt||return|")[0]
 	if got, from, e := fill.Fill(none, m, nil); e != api.OK || len(got)+len(from) != 0 {
 		t.Errorf("Fill of nothing = %v, %v, %d", got, from, e)
 	}
@@ -111,7 +95,7 @@ func TestP20_1Long(t *testing.T) {
 		}
 		return l
 	}
-	r := make1(t, "r", "expr|xs exprs|f(xs)|f(xs, xs)")
+	r := rules(t, "expr|xs exprs|f(xs)|f(xs, xs)")[0]
 	half := (api.MaxParts - 3) / 2
 	for _, c := range []struct {
 		n    int
@@ -354,11 +338,11 @@ func TestR1(t *testing.T) {
 		l[i+1] = api.Part{Kind: api.KName, Word: "a"}
 		picks = append(picks, api.Match{Part: i + 1})
 	}
-	r := make1(t, "r", "expr||a|f("+strings.Repeat("b,", 20000)+")")
+	r := rules(t, "expr||a|f("+strings.Repeat("b,", 20000)+")")[0]
 	if _, _, e := fill.Step([]api.Rule{r}, l, picks); e != api.ErrLong {
 		t.Errorf("Step of far too many parts: %d", e)
 	}
-	r = make1(t, "r", "expr||a|-b")
+	r = rules(t, "expr||a|-b")[0]
 	if got, _, e := fill.Step([]api.Rule{r}, l, picks); e != api.OK || len(got) != 100001 {
 		t.Errorf("Step of many picks: %d, %d", len(got), e)
 	}

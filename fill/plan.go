@@ -78,12 +78,11 @@ func (p *plan) fill(out *list, l []api.Part, binds []api.Bind, trees []int) {
 	var put func(i int) int
 	put = func(i int) int {
 		if h := p.holes.At(p.rule.By, i); h >= 0 {
-			out.keep(l, binds[h].From, binds[h].To)
+			out.grow(binds[h].From, l[binds[h].From:binds[h].To]...)
 			return trees[h]
 		}
 		at, kids := len(out.parts), 0
-		out.parts = append(out.parts, p.rule.By[i])
-		out.from = append(out.from, -1)
+		out.grow(-1, p.rule.By[i])
 		for k := i + 1; k < p.ends[i]; k = p.ends[k] {
 			kids += put(k)
 		}

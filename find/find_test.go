@@ -14,25 +14,14 @@ import (
 	"emend/trials"
 )
 
-// rules reads rules, each told as goal, holes and what is sought.
-func rules(t *testing.T, l ...string) []api.Rule {
+// rules are rules told in short.
+func rules(t *testing.T, short ...string) []api.Rule {
 	t.Helper()
-	var b strings.Builder
-	for i, s := range l {
-		f := strings.Split(s, "|")
-		b.WriteString("rule r" + string(rune('a'+i)) + " " + f[0] + "\n")
-		for _, h := range strings.Split(f[1], ",") {
-			if h != "" {
-				b.WriteString("hole " + h + "\n")
-			}
-		}
-		b.WriteString("find\n" + f[2] + "\nwith\n" + f[2] + "\nend\n")
-	}
-	out, f := rule.Read(b.String())
+	l, f := rule.Read(trials.Rules(short...))
 	if f != (api.Fault{}) {
-		t.Fatalf("Read(%q) = %v", b.String(), f)
+		t.Fatalf("rules %q: %v", short, f)
 	}
-	return out
+	return l
 }
 
 func parse(t *testing.T, goal uint8, s string) []api.Part {

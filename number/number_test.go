@@ -109,6 +109,17 @@ func TestP5_1All(t *testing.T) {
 	}
 }
 
+// TestP5_1Bytes: each byte in places where some may stand.
+func TestP5_1Bytes(t *testing.T) {
+	for b := 0; b < 256; b++ {
+		c := string([]byte{byte(b)})
+		for _, s := range []string{"", "1", "5", "1 5", "0 1", "0 ", "1. 5", ".5 ", "1e 5", "1e1 ", "1 .5", "0x 1", "0x1 5", "0x1p 5", "0x1.8 1", "0x1p1 ", "0b1 ", "0o7 ", "01 ", "1_ ", "0x. 1p1", "1 _1", "0 _1", "1ei ", "1 i"} {
+			check(t, strings.ReplaceAll(s, " ", c))
+			check(t, c+s)
+		}
+	}
+}
+
 func TestP5_1Examples(t *testing.T) {
 	for want, l := range map[uint8]string{
 		api.TInt:   "0 12 0b1 0x_Ff 1_000 017 0_7 00 0O_7 0B1_0 0xdeadBEEF 123456789012345678901234567890",

@@ -1,7 +1,6 @@
 package patch_test
 
 import (
-	"fmt"
 	"slices"
 	"strings"
 	"testing"
@@ -20,29 +19,14 @@ import (
 	"emend/trials"
 )
 
-// make1 reads a rule, told as goal, holes, what is sought and what is put.
-func make1(t *testing.T, name, s string) api.Rule {
+// rules are rules told in short.
+func rules(t *testing.T, short ...string) []api.Rule {
 	t.Helper()
-	f := strings.Split(s, "|")
-	file := "rule " + name + " " + f[0] + "\n"
-	for _, h := range strings.Split(f[1], ",") {
-		if h != "" {
-			file += "hole " + h + "\n"
-		}
+	l, f := rule.Read(trials.Rules(short...))
+	if f != (api.Fault{}) {
+		t.Fatalf("rules %q: %v", short, f)
 	}
-	l, fault := rule.Read(file + "find\n" + f[2] + "\nwith\n" + f[3] + "\nend\n")
-	if fault != (api.Fault{}) {
-		t.Fatalf("rule %q: %v", s, fault)
-	}
-	return l[0]
-}
-
-func rules(t *testing.T, l ...string) []api.Rule {
-	var out []api.Rule
-	for i, s := range l {
-		out = append(out, make1(t, fmt.Sprintf("r%d", i), s))
-	}
-	return out
+	return l
 }
 
 func ed(from, to int, text string) api.Edit { return api.Edit{From: from, To: to, Text: text} }

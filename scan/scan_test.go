@@ -24,7 +24,7 @@ func show(s string, l []api.Token) string {
 
 func TestP7_1Clean(t *testing.T) {
 	for s, want := range map[string]int{
-		"": -1, "abc": -1, "\ufeff": -1, "\ufeffa": -1, "a\ufeff": 1, "\ufeff\ufeff": 3, "a\x00": 1, "\x00": 0, "\xff": 0, "a\xc3": 1, "é\x80": 2, "a\x00\xff": 1, "a\xff\x00": 1, "\ufffd": -1, "a\xed\xa0\x80": 1, "ab\ufeff\xff": 2, "\x01\x7f": -1,
+		"": -1, "abc": -1, "\ufeff": -1, "\ufeffa": -1, "a\ufeff": 1, "\ufeff\ufeff": 3, "a\x00": 1, "\x00": 0, "\xff": 0, "a\xc3": 1, "é\x80": 2, "a\x00\xff": 1, "a\xff\x00": 1, "\ufffd": -1, "a\xed\xa0\x80": 1, "ab\ufeff\xff": 2, "\x01\x7f": -1, "\xff\x00": 0, "\xff\ufeff": 0,
 	} {
 		if got := scan.Clean(s); got != want {
 			t.Errorf("Clean(%q) = %d, want %d", s, got, want)
@@ -98,7 +98,7 @@ func TestP7_2(t *testing.T) {
 		s    string
 		want api.Fault
 	}{
-		{"1x", api.Fault{Err: api.ErrToken}}, {"#", api.Fault{Err: api.ErrToken}}, {"a /* b", api.Fault{Err: api.ErrToken, At: 2}}, {"a\x00", api.Fault{Err: api.ErrChar, At: 1}}, {"# \xff", api.Fault{Err: api.ErrChar, At: 2}}, {"a \ufeff", api.Fault{Err: api.ErrChar, At: 2}},
+		{"1x", api.Fault{Err: api.ErrToken}}, {"#", api.Fault{Err: api.ErrToken}}, {"a /* b", api.Fault{Err: api.ErrToken, At: 2}}, {"a\x00", api.Fault{Err: api.ErrChar, At: 1}}, {"\x00", api.Fault{Err: api.ErrChar}}, {"\xff", api.Fault{Err: api.ErrChar}}, {"\xc3", api.Fault{Err: api.ErrChar}}, {"# \xff", api.Fault{Err: api.ErrChar, At: 2}}, {"a \ufeff", api.Fault{Err: api.ErrChar, At: 2}},
 		{long + "\xff", api.Fault{Err: api.ErrLong}}, {long + "#", api.Fault{Err: api.ErrLong}}, {long[1:] + "#", api.Fault{Err: api.ErrToken, At: api.MaxText - 1}}, {"a 'bc' #", api.Fault{Err: api.ErrToken, At: 2}},
 	} {
 		if l, f := scan.All(c.s); f != c.want || len(l) != 0 {

@@ -38,29 +38,13 @@ import (
 	"emend/trials"
 )
 
-func read(t *testing.T, l ...string) []api.Rule {
+func read(t *testing.T, short ...string) []api.Rule {
 	t.Helper()
-	out, f := rule.Read(file(l...))
+	l, f := rule.Read(trials.Rules(short...))
 	if f != (api.Fault{}) {
-		t.Fatalf("Read(%q) = %v", l, f)
+		t.Fatalf("rules %q: %v", short, f)
 	}
-	return out
-}
-
-// file is a file of rules, each told as goal, holes, what is sought and what is put.
-func file(l ...string) string {
-	var b strings.Builder
-	for i, s := range l {
-		f := strings.Split(s, "|")
-		fmt.Fprintf(&b, "rule r%d %s\n", i, f[0])
-		for _, h := range strings.Split(f[1], ",") {
-			if h != "" {
-				b.WriteString("hole " + h + "\n")
-			}
-		}
-		b.WriteString("find\n" + f[2] + "\nwith\n" + f[3] + "\nend\n")
-	}
-	return b.String()
+	return l
 }
 
 func show(goal uint8, s string) string {
