@@ -111,6 +111,15 @@ func TestP20_1Long(t *testing.T) {
 			t.Errorf("Step of too many parts: %d", e)
 		}
 	}
+	// What one pick makes is seen to be too long ahead of what is wrong behind it.
+	l := list(half + 2)
+	much := api.Match{Rule: 0, Part: 1, Binds: []api.Bind{bind("xs", 1, half+2)}}
+	for i, picks := range [][]api.Match{{much, {Rule: 9}}, {{Rule: 9}, much}} {
+		want := []api.Errno{api.ErrLong, api.ErrArg}[i]
+		if _, _, e := fill.Step([]api.Rule{r}, l, picks); e != want {
+			t.Errorf("Step with a pick that makes too much: %d, want %d", e, want)
+		}
+	}
 	// A rule for statements makes its By without the KStmts around it.
 	s := api.Rule{Name: "s", Goal: api.GStmts, Find: []api.Part{{Kind: api.KEmpty}}, By: list(api.MaxParts + 1)}
 	s.By[0].Kind = api.KStmts
@@ -119,6 +128,9 @@ func TestP20_1Long(t *testing.T) {
 	}
 	s.By = append(s.By, api.Part{Kind: api.KEmpty})
 	s.By[0].Kids++
+	if _, _, e := fill.Step([]api.Rule{s}, list(1), []api.Match{{}}); e != api.ErrLong {
+		t.Errorf("Step of a pick that makes too many statements: %d", e)
+	}
 	if got, _, e := fill.Fill(s, list(1), nil); e != api.ErrLong || len(got) != 0 {
 		t.Errorf("Fill of more than MaxParts statements: %d, %d", len(got), e)
 	}
@@ -315,7 +327,7 @@ func TestP20_2Errors(t *testing.T) {
 		picks []api.Match
 		want  api.Errno
 	}{
-		{r, nil, nil, api.ErrTree}, {slices.Repeat(r, 11), nil, nil, api.ErrTree}, {slices.Repeat([]api.Rule{{}}, 33), l, nil, api.ErrMany}, {[]api.Rule{r[0], {}}, l, at(9, 9), api.ErrRule}, {nil, l, at(0, 0), api.ErrArg}, {r, l, at(3, 0), api.ErrArg}, {r, l, at(-1, 0), api.ErrArg}, {r, l, at(2, 5), api.ErrArg}, {r, l, at(2, -1), api.ErrArg}, {r, l, at(2, math.MaxInt), api.ErrArg}, {r, l, at(math.MaxInt, 0), api.ErrArg}, {r, l, at(0, 0), api.ErrArg},
+		{slices.Repeat(r[:2], 16), l, nil, api.OK}, {slices.Repeat(r, 11), l, nil, api.ErrMany}, {r, nil, nil, api.ErrTree}, {slices.Repeat(r, 11), nil, nil, api.ErrTree}, {slices.Repeat([]api.Rule{{}}, 33), l, nil, api.ErrMany}, {[]api.Rule{r[0], {}}, l, at(9, 9), api.ErrRule}, {nil, l, at(0, 0), api.ErrArg}, {r, l, at(3, 0), api.ErrArg}, {r, l, at(-1, 0), api.ErrArg}, {r, l, at(2, 5), api.ErrArg}, {r, l, at(2, -1), api.ErrArg}, {r, l, at(2, math.MaxInt), api.ErrArg}, {r, l, at(math.MaxInt, 0), api.ErrArg}, {r, l, at(0, 0), api.ErrArg},
 		{r, l, append(at(2, 2), at(2, 3)...), api.OK}, {r, l, append(at(2, 3), at(2, 2)...), api.ErrArg}, {r, l, append(at(2, 3), at(2, 3)...), api.ErrArg}, {r, l, append(at(2, 1), at(2, 3)...), api.ErrArg}, {r, l, append(at(2, 1), at(2, 4)...), api.OK}, {r, block, at(1, 1, bind("ss", 3, 7)), api.OK}, {r, block, at(1, 1, bind("ss", 3, 5)), api.OK}, {r, block, at(1, 1, bind("ss", 7, 7)), api.OK}, {r, block, at(1, 0, bind("ss", 3, 7)), api.ErrFit}, {r, block, at(1, 0, bind("ss", 3, 5)), api.OK},
 		{r, inLabel, at(1, 3, bind("ss", 5, 9)), api.ErrFit}, {r, inLabel, at(1, 3, bind("ss", 5, 5)), api.ErrFit}, {r, inLabel, at(1, 3, bind("ss", 5, 7)), api.OK}, {r, inLabel, append(at(1, 3, bind("ss", 5, 9)), at(9, 9)...), api.ErrFit}, {r, inLabel, append(at(1, 3, bind("ss", 5, 7)), at(9, 9)...), api.ErrArg}, {r, inLabel, at(1, 3, bind("ss", 5, 99)), api.ErrArg},
 	} {

@@ -64,6 +64,22 @@ func TestP21_1Texts(t *testing.T) {
 	}
 }
 
+// TestP21_1Long: a list that is too long fails a round only where a pick could be made in it.
+func TestP21_1Long(t *testing.T) {
+	r := rules(t, "stmt||x()|y(); z()")
+	for n, long := range map[int]bool{20000: false, 27000: true} {
+		s := "package p;const(" + strings.Repeat("a;", n) + ");func f(){l: x()"
+		one, f := patch.Round(api.GFile, s+"}", r)
+		if f != (api.Fault{}) || one.Bad != 0 || one.Text != s+"}" {
+			t.Errorf("%d names: %v, Bad %d", n, f, one.Bad)
+		}
+		two, f := patch.Round(api.GFile, s+"; x()}", r)
+		if long != (f == (api.Fault{Err: api.ErrLong})) || !long && two.Bad != 0 {
+			t.Errorf("%d names, two picks: %v, Bad %d", n, f, two.Bad)
+		}
+	}
+}
+
 func TestP21_1Faults(t *testing.T) {
 	r := rules(t, "expr||a|b")
 	long := strings.Repeat("a", api.MaxText)

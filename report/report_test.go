@@ -40,6 +40,11 @@ func TestP23_1(t *testing.T) {
 			t.Errorf("Matches(%q, %q) = %q, %v; want %q", c.s, c.rule, got, f, c.want)
 		}
 	}
+	// A bind that begins at the text's beginning, and is of several trees.
+	all := api.Rule{Name: "all", Goal: api.GStmts, Holes: []api.Hole{{Name: "ss", Kind: api.HStmts}}, Find: []api.Part{{Kind: api.KStmts, Kids: 1}, {Kind: api.KExprStmt, Kids: 1}, {Kind: api.KName, Word: "ss"}}, By: []api.Part{{Kind: api.KStmts}}}
+	if got, f := report.Matches(api.GStmts, "a; ; b; {;}; ;", []api.Rule{all}); f != (api.Fault{}) || !strings.HasPrefix(got, "1:1-1:13 all ss=\"a; ; b; {;}\"\n") {
+		t.Errorf("Matches of all statements = %q, %v", got, f)
+	}
 	r := rules(t, "expr||a")
 	for i, c := range []struct {
 		goal  uint8

@@ -123,6 +123,11 @@ func TestP16_2Faults(t *testing.T) {
 			t.Errorf("Read(%.60q) = %d rules, %v; want %v", c.s, len(l), f, want)
 		}
 	}
+	for n, want := range map[int]api.Errno{api.MaxText: api.OK, api.MaxText + 1: api.ErrLong} {
+		if l, f := rule.Read(example + strings.Repeat(" ", n-len(example))); f != (api.Fault{Err: want}) || len(l) == 1 != (want == api.OK) {
+			t.Errorf("Read of %d bytes = %d rules, %v", n, len(l), f)
+		}
+	}
 	if l, f := rule.Read(rules); f != (api.Fault{}) || len(l) != api.MaxRules {
 		t.Errorf("Read of MaxRules rules = %d, %v", len(l), f)
 	}
@@ -165,6 +170,18 @@ func TestP16_3(t *testing.T) {
 		back, f := rule.Read(s)
 		if e == api.OK && (f != (api.Fault{}) || !slices.EqualFunc(back, c.l, same)) {
 			t.Errorf("%d: Read of Show = %v, %v", i, back, f)
+		}
+	}
+}
+
+// TestP16_3Long: a file may have MaxText bytes, and no more.
+func TestP16_3Long(t *testing.T) {
+	const frame = len("rule a expr\nfind\n\nwith\nb\nend\n")
+	for n, want := range map[int]api.Errno{api.MaxText - frame: api.OK, api.MaxText - frame + 1: api.ErrLong} {
+		find := []api.Part{{Kind: api.KName, Word: strings.Repeat("a", n)}}
+		s, e := rule.Show([]api.Rule{{Name: "a", Goal: api.GExpr, Find: find, By: read(t, `(26 "b")`)}})
+		if e != want || (e == api.OK) != (len(s) == api.MaxText) {
+			t.Errorf("Show with %d bytes = %d bytes, %d", n, len(s), e)
 		}
 	}
 }
