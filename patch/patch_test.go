@@ -64,6 +64,36 @@ func TestP21_1Texts(t *testing.T) {
 	}
 }
 
+// TestP21_1Apart: bytes that would grow together, and such as would not.
+func TestP21_1Apart(t *testing.T) {
+	for _, name := range []string{"a", "z", "A", "Z", "_", "m", "é", "\u00c0", "\u4e00"} {
+		for _, end := range []string{"", "a", "z", "A", "Z", "0", "9", "_", "\u00c0", "\u00ff"} {
+			s := "func(" + name + end + "(b))"
+			got, f := patch.Round(api.GType, s, rules(t, "type||(b)|"+name+"c"))
+			if want := "func(" + name + end + " " + name + "c)"; f != (api.Fault{}) || got.Text != want {
+				t.Errorf("%q became %q, want %q", s, got.Text, want)
+			}
+		}
+	}
+	for _, op := range strings.Fields("+ - * / % & | ^ << >> < > == != <= >= && || &^") {
+		for _, sign := range []string{"+", "-", "^", "&", "*", "<-", "!"} {
+			got, f := patch.Round(api.GExpr, "a"+op+"x", rules(t, "expr||x|"+sign+"y"))
+			if want := "a" + op + " " + sign + "y"; f != (api.Fault{}) || got.Text != want {
+				t.Errorf("a%sx became %q, want %q", op, got.Text, want)
+			}
+		}
+	}
+	for _, c := range [][3]string{
+		{"expr||x|-y", "a[:x]", "a[: -y]"}, {"expr||x|-y", "a[x:]", "a[-y:]"}, {"expr||x|-y", "a[x]", "a[-y]"}, {"expr||x|-y", "f(x,x)", "f(-y,-y)"}, {"expr||x|-y", "!x", "! -y"}, {"expr||x|-y", "T{a:x}", "T{a: -y}"}, {"expr||x|-y", "\ufeffx", "\ufeff-y"}, {"expr||x|-y", "\ufeff-x", "\ufeff- -y"}, {"expr||(x)|y", "\ufeff(x)", "\ufeffy"}, {"type||b|*c", "interface{~b}", "interface{~ *c}"}, {"type||b|*c", "chan<-b", "chan<- *c"}, {"expr|x expr|x|f(x)", "a /* c */ + b", "f(a /* c */ + b)"},
+		{"expr||x|1", "x", "1"}, {"expr||x|y + 1", "x . z", "(y + 1) . z"}, {"expr||x|0x1f", "x.z", "0x1f .z"}, {"expr||x|1", "x/*c*/.z", "1/*c*/.z"}, {"expr||x|y", "x.z", "y.z"}, {"expr||x|\"s\"", "x.z", "\"s\".z"}, {"expr||x|[]T{}", "a<x", "a<[]T{}"},
+	} {
+		goal := map[string]uint8{"e": api.GExpr, "t": api.GType}[c[0][:1]]
+		if got, f := patch.Round(goal, c[1], rules(t, c[0])); f != (api.Fault{}) || got.Text != c[2] {
+			t.Errorf("%q over %q: %q, %v; want %q", c[0], c[1], got.Text, f, c[2])
+		}
+	}
+}
+
 // TestP21_1Long: a list that is too long fails a round only where a pick could be made in it.
 func TestP21_1Long(t *testing.T) {
 	r := rules(t, "stmt||x()|y(); z()")
@@ -102,7 +132,7 @@ func TestP21_1Faults(t *testing.T) {
 		}
 	}
 	for _, n := range []int{-1, -1 << 63} {
-		if got, f := patch.Some(9, "a b", nil, n); f != (api.Fault{Err: api.ErrArg}) || !same(got, api.Round{}) {
+		if got, f := patch.Some(api.GExpr, "a b", nil, n); f != (api.Fault{Err: api.ErrArg}) || !same(got, api.Round{}) {
 			t.Errorf("Some of %d: %v", n, f)
 		}
 	}

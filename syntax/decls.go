@@ -8,9 +8,6 @@ func (r *reader) file() *knot {
 	r.want(";")
 	imports := r.decls("import")
 	others := r.decls("const", "var", "type", "func")
-	if !r.ended() {
-		r.fail()
-	}
 	return r.node(api.KFile, -1, 0, name, imports, others)
 }
 
