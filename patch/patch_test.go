@@ -206,8 +206,10 @@ func (x text) edit(rules []api.Rule, l []api.Part, m api.Match) (api.Edit, api.E
 		out = " " + out
 	}
 	if s != "" && b < len(x.s) {
-		lex, _ := scan.All(s)
-		last := lex[len(lex)-1].Kind
+		var last uint8 // of a text that can't be cut there is no last lexeme
+		if lex, f := scan.All(s); f == (api.Fault{}) {
+			last = lex[len(lex)-1].Kind
+		}
 		if c := sort(s[len(s)-1]); c > 0 && c == sort(x.s[b]) || x.s[b] == '.' && (last == api.TInt || last == api.TFloat || last == api.TImag) {
 			out += " "
 		}
@@ -306,6 +308,54 @@ func TestP21_1All(t *testing.T) {
 		}
 	}
 	if made < 800 || refused < 100 {
+		t.Errorf("%d picks were made, %d rounds refused", made, refused)
+	}
+}
+
+// piece is some part of some text's term, with all within it.
+func piece(d *trials.Dice, l []api.Part) []api.Part {
+	at := d.Roll(len(l))
+	return slices.Clone(l[at:term.End(l, at)])
+}
+
+// TestP21_1Any: rules that no text of rules says, made of any parts, held against the document's
+// words too.
+func TestP21_1Any(t *testing.T) {
+	d := trials.New(217)
+	made, refused := 0, 0
+	for i := 0; i < 12000; i++ {
+		goal := uint8(1 + i%4)
+		s := trials.Text(goal, d, 3)
+		l, _ := syntax.Term(goal, s)
+		other, _ := syntax.Term(api.GStmts, trials.Text(api.GStmts, d, 3))
+		r := api.Rule{Name: "r", Goal: uint8(1 + d.Roll(3)), Find: piece(d, l), By: piece(d, other)}
+		if d.Roll(2) == 0 {
+			r.By = piece(d, l)
+		}
+		for _, name := range []string{"a", "x", "T", "f"} {
+			if d.Roll(2) == 0 {
+				r.Holes = append(r.Holes, api.Hole{Name: name, Kind: uint8(1 + d.Roll(7))})
+			}
+		}
+		if r.Goal == api.GStmts && r.By[0].Kind != api.KStmts {
+			r.By = append([]api.Part{{Kind: api.KStmts, Kids: 1}}, r.By...)
+		}
+		if rule.Check(r) != api.OK {
+			continue
+		}
+		want := round(goal, s, []api.Rule{r}, 1<<30)
+		got, f := patch.Round(goal, s, []api.Rule{r})
+		if f != (api.Fault{}) || !same(got, want) {
+			t.Fatalf("Round(%d, %q, %v) = %+v, %v; want %+v", goal, s, r, got, f, want)
+		}
+		if got.Bad >= 0 {
+			refused++
+		} else {
+			made += len(got.Picks)
+			outside(t, s, got)
+		}
+	}
+	if made < 200 || refused < 200 {
 		t.Errorf("%d picks were made, %d rounds refused", made, refused)
 	}
 }
