@@ -1,6 +1,9 @@
 package syntax
 
-import "emend/api"
+import (
+	"emend/api"
+	"emend/levels"
+)
 
 func (r *reader) exprs() *knot {
 	return r.commas(api.KExprs, r.expr)
@@ -15,7 +18,7 @@ func (r *reader) binary(level int) *knot {
 	from := r.at
 	left := r.unary()
 	for {
-		tight := operator(r.sign(0))
+		tight := levels.Of(r.sign(0))
 		if tight < level {
 			return left
 		}
@@ -23,23 +26,6 @@ func (r *reader) binary(level int) *knot {
 		right := r.binary(tight + 1)
 		left = r.node(api.KBinary, word, from, left, right)
 	}
-}
-
-// operator is the level of an operator, 0 of what is none.
-func operator(sign string) int {
-	switch sign {
-	case "||":
-		return 1
-	case "&&":
-		return 2
-	case "==", "!=", "<", "<=", ">", ">=":
-		return 3
-	case "+", "-", "|", "^":
-		return 4
-	case "*", "/", "%", "<<", ">>", "&", "&^":
-		return 5
-	}
-	return 0
 }
 
 func (r *reader) unary() *knot {

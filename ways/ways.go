@@ -7,8 +7,26 @@ import (
 
 	"emend/api"
 	"emend/holes"
+	"emend/rule"
+	"emend/term"
 	"emend/woods"
 )
+
+// Check is what keeps rules from being sought in a list.
+func Check(rules []api.Rule, l []api.Part) api.Errno {
+	if !term.Well(l) {
+		return api.ErrTree
+	}
+	if len(rules) > api.MaxRules {
+		return api.ErrMany
+	}
+	for _, r := range rules {
+		if e := rule.Check(r); e != api.OK {
+			return e
+		}
+	}
+	return api.OK
+}
 
 // Seeker is a rule that may be, which is sought.
 type Seeker struct {
