@@ -143,6 +143,10 @@ var terms = [][2]string{
 		`(26 "a")`},
 	{`expr aNL`,
 		`(26 "a")`},
+	{`type aNLNL`,
+		`(26 "a")`},
+	{`expr a ; // bNL/* c */`,
+		`(26 "a")`},
 	{`stmts a -= b; a *= b; a /= b; a %= b; a &= b; a |= b; a ^= b; a <<= b; a >>= b`,
 		`(13 (53 "-=" (11 (26 "a")) (11 (26 "b"))) (53 "*=" (11 (26 "a")) (11 (26 "b"))) (53 "/=" (11 (26 "a")) (11 (26 "b"))) (53 "%=" (11 (26 "a")) (11 (26 "b"))) (53 "&=" (11 (26 "a")) (11 (26 "b"))) (53 "|=" (11 (26 "a")) (11 (26 "b"))) (53 "^=" (11 (26 "a")) (11 (26 "b"))) (53 "<<=" (11 (26 "a")) (11 (26 "b"))) (53 ">>=" (11 (26 "a")) (11 (26 "b"))))`},
 	{`type func() []a`,
@@ -233,7 +237,13 @@ var faults = []struct {
 	{`type struct{1}`, 7, 7},
 	{`type interface{1}`, 7, 10},
 	{`type a b`, 7, 2},
-	{`type a;;`, 7, 2},
+	{`type a;;`, 7, 1},
+	{`type a;b`, 7, 1},
+	{`type aNLb`, 7, 1},
+	{`type aNL;`, 7, 1},
+	{`type a /**/ ;;NL// b`, 7, 7},
+	{`type ;`, 7, 0},
+	{`type [];`, 7, 2},
 	{`type a[]`, 7, 2},
 	{`type a[1]`, 7, 2},
 	{`type a.1`, 7, 1},
@@ -252,7 +262,16 @@ var faults = []struct {
 	{`type [...]`, 7, 5},
 	{`type [a b]c`, 7, 3},
 	{`expr a b`, 7, 2},
-	{`expr a;b`, 7, 2},
+	{`expr a;b`, 7, 1},
+	{`expr a;;`, 7, 1},
+	{`expr a;;;b`, 7, 1},
+	{`expr aNLb`, 7, 1},
+	{`expr a // bNL+ c`, 7, 1},
+	{`expr (t{});*`, 7, 5},
+	{`expr n{}()NL{}`, 7, 5},
+	{`expr a b;`, 7, 2},
+	{`expr ;`, 7, 0},
+	{`expr a +;`, 7, 3},
 	{`expr (a`, 5, 0},
 	{`expr ()`, 7, 1},
 	{`expr (a b)`, 7, 3},
@@ -458,6 +477,29 @@ func TestP12_1Faults(t *testing.T) {
 		l, f2 := syntax.Term(c.goal, c.s)
 		if f != c.want || f2 != c.want || len(p.Tokens)+len(p.Nodes)+len(l) != 0 {
 			t.Errorf("Parse(%d, %.20q) = %v, %v; want %v", c.goal, c.s, f, f2, c.want)
+		}
+	}
+}
+
+// TestP12_1Ends: behind a Type and an Expr one ';' may stand ahead of the end; it is the
+// fault itself, if anything stands behind it.
+func TestP12_1Ends(t *testing.T) {
+	d := trials.New(16)
+	for i := 0; i < 3000; i++ {
+		g := api.GType + uint8(i%2)
+		s := trials.Text(g, d, 1+i%3)
+		want := show(g, s)
+		for _, end := range []string{";", "\n", " ;\n", "\n// a\n"} {
+			if got := show(g, s+end); want == "fault" || got != want {
+				t.Fatalf("%q is read as %s, want %s", s+end, got, want)
+			}
+		}
+		fault := api.Fault{Err: api.ErrSyntax, At: len(s)}
+		more := trials.Text(uint8(1+d.Roll(4)), d, 1)
+		for _, end := range []string{";;", "\n;", ";" + more + ";", "\n;" + more, ";\n" + more + "\n;"} {
+			if p, f := syntax.Parse(g, s+end); f != fault || len(p.Tokens)+len(p.Nodes) != 0 {
+				t.Fatalf("Parse(%d, %q) = %v, want %v", g, s+end, f, fault)
+			}
 		}
 	}
 }
