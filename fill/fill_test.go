@@ -341,6 +341,49 @@ func TestP20_2Errors(t *testing.T) {
 	}
 }
 
+// TestP20_Much: what is made may be far more than MaxParts, than 32 bits count.
+func TestP20_Much(t *testing.T) {
+	row := func(n int) []api.Part {
+		l := make([]api.Part, n+1)
+		for i := range l {
+			l[i] = api.Part{Kind: api.KName, Word: "xs"}
+		}
+		l[0] = api.Part{Kind: api.KExprs, Kids: n}
+		return l
+	}
+	seek := api.Rule{Name: "r", Goal: api.GExpr, Holes: []api.Hole{{Name: "xs", Kind: api.HExprs}}, Find: row(1)}
+	for _, c := range [][2]int{{1 << 15, 1 << 16}, {50000, 50000}, {1 << 16, 1 << 16}, {1 << 17, 1 << 15}, {1 << 18, 1 << 15}} {
+		seek.By = row(c[0])
+		l := row(c[1])
+		binds := []api.Bind{bind("xs", 1, len(l))}
+		if got, _, e := fill.Fill(seek, l, binds); e != api.ErrLong || len(got) != 0 {
+			t.Errorf("Fill of %d places by %d parts: %d parts, %d", c[0], c[1], len(got), e)
+		}
+		if got, _, e := fill.Step([]api.Rule{seek}, l, []api.Match{{Binds: binds}}); e != api.ErrLong || len(got) != 0 {
+			t.Errorf("Step of %d places by %d parts: %d parts, %d", c[0], c[1], len(got), e)
+		}
+		none := []api.Bind{bind("xs", 1, 1)}
+		if got, _, e := fill.Fill(seek, l, none); e != api.OK || len(got) != 1 {
+			t.Errorf("Fill of %d places by no parts: %d parts, %d", c[0], len(got), e)
+		}
+	}
+	much := api.Rule{Name: "r", Goal: api.GExpr, Find: []api.Part{{}}, By: row(api.MaxParts - 1)}
+	l := row(1 << 16)
+	for _, n := range []int{1, 1 << 14, 1 << 15, 1 << 16} {
+		var picks []api.Match
+		for i := range n {
+			picks = append(picks, api.Match{Part: i + 1})
+		}
+		if got, _, e := fill.Step([]api.Rule{much}, l, picks); e != api.ErrLong || len(got) != 0 {
+			t.Errorf("Step of %d picks of MaxParts parts: %d parts, %d", n, len(got), e)
+		}
+		picks = append(picks, api.Match{Part: 1})
+		if got, _, e := fill.Step([]api.Rule{much}, l, picks); e != api.ErrArg || len(got) != 0 {
+			t.Errorf("Step of %d picks, the last one of a part that was picked: %d parts, %d", n, len(got), e)
+		}
+	}
+}
+
 // TestR1: many places and many picks end soon.
 func TestR1(t *testing.T) {
 	l := make([]api.Part, 50001)

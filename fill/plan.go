@@ -58,11 +58,17 @@ func (p *plan) mayBe(l []api.Part, binds []api.Bind) ([]int, bool) {
 	return trees, true
 }
 
-// measure tells how many parts, and how many trees, the rule makes by binds that may be.
-func (p *plan) measure(binds []api.Bind, trees []int) (size, makes int) {
+// measure tells how many parts, and how many trees, the rule makes by binds that may be, and
+// whether that is no more than MaxParts parts. What the binds put is held against the room that is
+// left: all of it may be more than an int holds.
+func (p *plan) measure(binds []api.Bind, trees []int) (size, makes int, ok bool) {
 	size = p.own
 	for n, b := range binds {
-		size += p.places[n] * (b.To - b.From)
+		long := b.To - b.From
+		if long > 0 && p.places[n] > (api.MaxParts-size)/long {
+			return 0, 0, false
+		}
+		size += p.places[n] * long
 	}
 	for _, i := range p.roots {
 		makes++
@@ -70,7 +76,7 @@ func (p *plan) measure(binds []api.Bind, trees []int) (size, makes int) {
 			makes += trees[h] - 1
 		}
 	}
-	return size, makes
+	return size, makes, size <= api.MaxParts
 }
 
 // fill puts what the rule makes by binds that may be behind what is there.

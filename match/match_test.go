@@ -388,6 +388,19 @@ func TestR1(t *testing.T) {
 	if got, ok := match.At(made(t, api.GExpr, "f(xs, ys, b)", xs, ys), l, 0); !ok || got[1].To != len(l)-1 {
 		t.Errorf("f(xs, ys, b): %v, %v", got, ok)
 	}
+	// What stands for xs is far more in its places than the list has, than 32 bits count.
+	l = append([]api.Part{{Kind: api.KCall, Kids: 2}}, append(l, api.Part{Kind: api.KExprs, Kids: 1}, api.Part{Kind: api.KName, Word: "b"})...)
+	for _, n := range []int{1, 2, 120000, 1 << 18} {
+		r := made(t, api.GExpr, "f(xs)", xs, ys)
+		r.Find = append([]api.Part{{Kind: api.KCall, Kids: 2}}, append(r.Find, api.Part{Kind: api.KExprs, Kids: n + 1}, r.Find[3])...)
+		r.Find[len(r.Find)-1].Word = "ys"
+		for range n {
+			r.Find = append(r.Find, api.Part{Kind: api.KName, Word: "xs"})
+		}
+		if got, ok := match.At(r, l, 0); ok {
+			t.Errorf("xs in %d places, where one part is: %v", n, got)
+		}
+	}
 	deep := make([]api.Part, 60001)
 	for i := range deep {
 		deep[i] = api.Part{Kind: api.KParen, Kids: 1}

@@ -88,6 +88,7 @@ func TestP3_1Apply(t *testing.T) {
 		{long, nil, long, api.OK}, {long + "a", nil, "", api.ErrLong}, {long + "a", edits{ed(3, 2, "")}, "", api.ErrLong}, {long + "a", edits{ed(0, 5, "")}, "", api.ErrLong},
 		{long, edits{ed(5, 5, "x")}, "", api.ErrLong}, {long, edits{ed(0, 1, ""), ed(9, 9, "x")}, long[:8] + "x" + long[9:], api.OK}, {long, edits{ed(9, 9, "xx"), ed(12, 11, "")}, "", api.ErrCross},
 		{"a", edits{ed(0, 1, long)}, long, api.OK}, {"a", edits{ed(0, 0, long)}, "", api.ErrLong}, {"a", edits{ed(0, 0, long), ed(0, 1, "")}, long, api.OK},
+		{long, edits{ed(0, 0, long), ed(0, api.MaxText, "")}, long, api.OK}, {long, edits{ed(0, 0, long), ed(0, api.MaxText-1, "")}, "", api.ErrLong}, {long, edits{ed(0, api.MaxText, long)}, long, api.OK}, {long, edits{ed(0, api.MaxText, long+"a")}, "", api.ErrLong},
 	} {
 		if got, e := span.Apply(c.s, c.l); got != c.want || e != c.err {
 			t.Errorf("Apply of %d bytes, %d edits: %d bytes, %d; want %d, %d", len(c.s), len(c.l), len(got), e, len(c.want), c.err)

@@ -157,7 +157,8 @@ func (w *way) several(h int, find, l row, next func() bool) bool {
 }
 
 // places counts, in a row of what is sought, the places of a hole for several; of the other
-// one, if it isn't known what that stands for; and how many kids all else takes.
+// one, if it isn't known what that stands for; and how many kids all else takes. More kids than
+// the list has parts are no more counted: there may be more than an int holds.
 func (w *way) places(h int, find row) (own, other, fixed int) {
 	for ; find.kids > 0; find = behind(w.ends, find, 1) {
 		x := w.holes.At(w.find, find.at)
@@ -167,7 +168,7 @@ func (w *way) places(h int, find row) (own, other, fixed int) {
 		case x < 0 || !holes.Several(w.holes.Kind(x)):
 			fixed++
 		case w.stands[x].known:
-			fixed += w.stands[x].kids
+			fixed = min(fixed+w.stands[x].kids, len(w.l))
 		default:
 			other++
 		}
